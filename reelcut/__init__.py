@@ -1,0 +1,1 @@
+"""Reelcut: a cutting room for reels of pictures."""
