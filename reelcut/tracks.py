@@ -1,6 +1,6 @@
 """Tracks: lists of items in the one form, which lie end to end from moment 0 on."""
 
-from reelcut.clips import is_name
+from reelcut.clips import clip_part, is_name
 from reelcut.fractions import is_whole
 
 
@@ -86,12 +86,47 @@ def place_behind(track, place):
     return place + 2 if kind_at(track, place + 1) == "mix" else place + 1
 
 
-def clips_at_border(track, moment):
-    # The places of the two clips between which the border lies, with or without a mix, or None.
+def neighbours_at(track, moment):
+    # The places of the two items, mixes aside, between which the border lies, or None.
     found = item_at(track, moment)
-    if found is None or found[1] != 0:
+    if found is None or found[1] != 0 or found[0] == 0:
         return None
-    left = place_ahead(track, found[0])
-    if kind_at(track, left) != "clip" or kind_at(track, found[0]) != "clip":
+    return (place_ahead(track, found[0]), found[0])
+
+
+def clips_at_border(track, moment):
+    places = neighbours_at(track, moment)
+    if places is None or kind_at(track, places[0]) != "clip" or kind_at(track, places[1]) != "clip":
         return None
-    return (left, found[0])
+    return places
+
+
+def lies_within(track, moment):
+    # Whether a clip or nest would be cut at the moment; a gap is none that could be.
+    found = item_at(track, moment)
+    return found is not None and found[1] > 0 and kind_at(track, found[0]) in ("clip", "nest")
+
+
+def item_part(item, low, high):
+    if item[0] == "clip":
+        return clip_part(item, low, high)
+    if item[0] == "nest":
+        return ("nest", item[1], item[2] + low, high - low)
+    return ("gap", high - low)
+
+
+def part_of_track(track, low, high):
+    parts = []
+    begin = 0
+    for item in track:
+        end = begin + moments_of(item)
+        first = max(low, begin)
+        last = min(high, end)
+        if item[0] == "mix":
+            # At the edge of the part one of its two clips would be missing.
+            if low < begin and begin < high:
+                parts.append(item)
+        elif first < last:
+            parts.append(item_part(item, first - begin, last - begin))
+        begin = end
+    return parts

@@ -27,6 +27,9 @@ METHODS = (
     "items join keys ljust lower lstrip partition pop remove replace reverse rfind rjust rpartition rsplit rstrip "
     "setdefault split splitlines startswith strip update upper values zfill bit_length"
 ).split()
+NEVER_VALUES = (
+    "items keys values pop update append clear extend insert remove reverse setdefault sort args encode format"
+).split()
 DUNDERS = ("__init__", "__eq__", "__repr__", "__str__", "__len__")
 NEVER_NAMES = (
     "register mro elements open input version_info with_traceback add_note attrgetter breakpoint builtins compile "
@@ -253,6 +256,12 @@ class TestLanguage(unittest.TestCase):
                 is_pythons = any(hasattr(kind, node.attr) for kind in PYTHONS_OWN_KINDS)
                 if is_pythons and node.attr not in METHODS and node.attr not in free:
                     self.fail_at(name, node, "L25")
+
+    def test_values_of_objects(self):
+        for name, node in self.nodes():
+            if isinstance(node, ast.Attribute) and isinstance(node.ctx, ast.Store):
+                self.assertNotIn(node.attr, own_methods(), f"{name}: L18")
+                self.assertNotIn(node.attr, NEVER_VALUES, f"{name}: L26")
 
 
 if __name__ == "__main__":
