@@ -55,3 +55,11 @@ class Hand:
 
     def ahead(self):
         return list(reversed(self.undone))
+
+
+def hand_like(hand, reels):
+    # A second hand to try a deed with: what becomes of it, the first one stays as it is.
+    other = Hand(hand.held, reels)
+    other.done = list(hand.done)
+    other.undone = list(hand.undone)
+    return other

@@ -40,6 +40,11 @@ def table_of(*tracks, tied=()):
     return ([list(track) for track in tracks], list(tied))
 
 
+def room_of(**found):
+    """A room with a table of each name and these tracks, none tied."""
+    return (dict(REELS), {name: ([list(track) for track in tracks], []) for name, tracks in found.items()})
+
+
 def room_with(table):
     return (dict(REELS), {"table": table, **INNER})
 
@@ -99,6 +104,23 @@ def with_mixes(rng, track):
 def random_table(rng):
     tracks = [random_track(rng) for _ in range(rng.randint(1, 3))]
     return (tracks, [number for number in range(len(tracks)) if rng.random() < 0.6])
+
+
+def random_nest(rng, names):
+    return nest(rng.randint(0, 6), rng.randint(1, 12), rng.choice(names))
+
+
+def random_room(rng):
+    """Tables nested up to six deep, with tracks at random."""
+    names = ["empty", "a", "b", "c", "d", "e"][:rng.randint(1, 6)]
+    tables = {"empty": ([[], []], [])}
+    for k, name in enumerate(names[1:]):
+        tracks = []
+        for _ in range(rng.randint(1, 3)):
+            track = random_track(rng) + [random_nest(rng, names[:k + 1])] + random_track(rng)
+            tracks.append([random_nest(rng, names[:k + 1]) if item[0] == "nest" else item for item in track])
+        tables[name] = (tracks, [])
+    return (dict(REELS), tables)
 
 
 def places_of(track):

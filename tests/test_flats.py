@@ -8,7 +8,7 @@ import time
 import unittest
 from fractions import Fraction
 
-from helper import REELS, clip, gap, length_by_model, mix, nest, outcome, pair, places_of, random_track
+from helper import clip, gap, length_by_model, mix, nest, outcome, pair, places_of, random_room, room_of
 from reelcut import flats
 from reelcut.errors import TooMuch
 from reelcut.flats import laid_flat, told_flat
@@ -18,11 +18,6 @@ HUGE = 10**30
 ARGUMENTS = {"laid_flat": ["room", "name"], "told_flat": ["pieces", "moment"]}
 # Told at once: far less than any count of pieces one by one would take, far more than a slow machine needs.
 AT_ONCE = 5
-
-
-def room_of(**found):
-    """A room with a table of each name and these tracks, none tied."""
-    return (dict(REELS), {name: ([list(track) for track in tracks], []) for name, tracks in found.items()})
 
 
 def shown(start, step=1, reel="sea", share=1, share_step=0):
@@ -79,23 +74,6 @@ def pieces_by_model(room, name):
     walks = [met_by_model(room, name, moment) for moment in range(end)]
     runs = [list(run) for met, run in itertools.groupby(walks, key=lambda walk: walk[0])]
     return [(len(run), run[0][1]) for run in runs]
-
-
-def random_nest(rng, names):
-    return nest(rng.randint(0, 6), rng.randint(1, 12), rng.choice(names))
-
-
-def random_room(rng):
-    """Tables nested up to six deep, with tracks at random."""
-    names = ["empty", "a", "b", "c", "d", "e"][:rng.randint(1, 6)]
-    tables = {"empty": ([[], []], [])}
-    for k, name in enumerate(names[1:]):
-        tracks = []
-        for _ in range(rng.randint(1, 3)):
-            track = random_track(rng) + [random_nest(rng, names[:k + 1])] + random_track(rng)
-            tracks.append([random_nest(rng, names[:k + 1]) if item[0] == "nest" else item for item in track])
-        tables[name] = (tracks, [])
-    return (dict(REELS), tables)
 
 
 def clips_of_one(many):

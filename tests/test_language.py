@@ -30,6 +30,8 @@ METHODS = (
 NEVER_VALUES = (
     "items keys values pop update append clear extend insert remove reverse setdefault sort args encode format"
 ).split()
+WALKS = ("zip", "enumerate", "reversed", "range", "items", "keys", "values")
+WALKERS = ("list", "tuple", "dict", "sorted", "sum", "any", "all", "enumerate", "zip", "min", "max", "join")
 DUNDERS = ("__init__", "__eq__", "__repr__", "__str__", "__len__")
 NEVER_NAMES = (
     "register mro elements open input version_info with_traceback add_note attrgetter breakpoint builtins compile "
@@ -64,6 +66,21 @@ def own_methods():
             if isinstance(node, ast.ClassDef):
                 found.update(one.name for one in node.body if isinstance(one, ast.FunctionDef))
     return found
+
+
+def own_classes():
+    return {node.name for tree in trees().values() for node in tree.body if isinstance(node, ast.ClassDef)}
+
+
+def name_of_call(node):
+    """The name by which a function or method is called, or None of what is no call."""
+    if not isinstance(node, ast.Call):
+        return None
+    return node.func.attr if isinstance(node.func, ast.Attribute) else getattr(node.func, "id", None)
+
+
+def with_parents(tree):
+    return [(node, parent) for parent in ast.walk(tree) for node in ast.iter_child_nodes(parent)]
 
 
 def is_docstring(node):
@@ -256,6 +273,32 @@ class TestLanguage(unittest.TestCase):
                 is_pythons = any(hasattr(kind, node.attr) for kind in PYTHONS_OWN_KINDS)
                 if is_pythons and node.attr not in METHODS and node.attr not in free:
                     self.fail_at(name, node, "L25")
+
+    def test_lists_and_dicts_at_the_top_hold_none(self):
+        for name, tree in trees().items():
+            for node in tree.body:
+                if isinstance(node, ast.Assign):
+                    held = [one for one in ast.walk(node.value) if isinstance(one, (ast.List, ast.Dict)) and one != node.value]
+                    self.assertEqual(held, [], f"{name}, row {node.lineno}: L15")
+
+    def test_classes_are_not_handed_on(self):
+        classes = own_classes()
+        for name, tree in trees().items():
+            for node, parent in with_parents(tree):
+                if isinstance(node, ast.Name) and node.id in classes:
+                    called = isinstance(parent, ast.Call) and (parent.func == node or name_of_call(parent) == "isinstance")
+                    taken = isinstance(parent, (ast.ClassDef, ast.ExceptHandler, ast.Raise, ast.Attribute))
+                    of_several = isinstance(parent, ast.Tuple)
+                    if not called and not taken and not of_several:
+                        self.fail_at(name, node, "L18")
+
+    def test_walked_at_once(self):
+        for name, tree in trees().items():
+            for node, parent in with_parents(tree):
+                if name_of_call(node) in WALKS:
+                    looped = isinstance(parent, (ast.For, ast.comprehension)) and parent.iter == node
+                    if not looped and name_of_call(parent) not in WALKERS:
+                        self.fail_at(name, node, "L23")
 
     def test_values_of_objects(self):
         for name, node in self.nodes():
